@@ -701,7 +701,7 @@ func TestAllShortBytes(t *testing.T) {
 // edges are bytes at which something may come to be another thing: numbers of one byte, and that go on, bytes of texts, and of what is none.
 const edges = "\x00\x01\x02\x03\x04ax\x7F\x80\x81\xA9\xC3\xE2\xF0\xFF"
 
-// P15.1 to P15.3: all rows of six bytes of those in edges behind one to five bytes, or numbers.
+// P15.1 to P15.3: a length, or a count, of one to five, and all rows of five bytes of those in edges behind.
 func TestBoundsOfLongerBytes(t *testing.T) {
 	for n := range len(edges) * len(edges) * len(edges) * len(edges) * len(edges) {
 		var b [6]byte
